@@ -1,0 +1,1 @@
+"""Fardials: shared draws, quiet tables and strongest boxes of far hands."""

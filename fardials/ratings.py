@@ -1,0 +1,30 @@
+"""Ratings: one integer for each entry of a shape, as rows."""
+
+from fardials.errors import InvalidRating
+from fardials.plans import check_plan, plan_outcome
+from fardials.shapes import contexts, outcome_index, outcomes
+
+
+def check_rating(shape, rating):
+    """Raises InvalidRating with -1 or the index of the first wrong row."""
+    if len(rating) != len(contexts(shape)):
+        raise InvalidRating(-1)
+    width = len(outcomes(shape))
+    for at, row in enumerate(rating):
+        if len(row) != width:
+            raise InvalidRating(at)
+
+
+def rate_plan(shape, rating, plan):
+    """The sum, over all contexts, of the number at the outcome of the plan."""
+    check_rating(shape, rating)
+    check_plan(shape, plan)
+    return sum([row[outcome_index(shape, plan_outcome(plan, context))]
+                for context, row in zip(contexts(shape), rating)])
+
+
+def rate_table(rating, table):
+    """The sum, over all entries, of the number times the amount."""
+    check_rating(table.shape, rating)
+    return sum([number * amount for numbers, amounts in zip(rating, table.rows)
+                for number, amount in zip(numbers, amounts)])

@@ -1,0 +1,94 @@
+"""Shapes, tables and ratings that several tests use."""
+
+from itertools import product
+from random import Random
+
+from fardials.plans import plans
+from fardials.tables import Table
+
+# The greatest integer of 30 digits.
+GREAT = 10 ** 30 - 1
+
+ONE_HAND = ((2, 3),)
+SQUARE = ((2, 2), (2, 2))
+THREE_HANDS = ((1, 3), (2, 2), (1, 2))
+# Three shapes of exactly 64 plans.
+FULL_SHAPES = [((2, 2), (2, 2), (2, 2)), ((4, 2), (2, 2)), ((2, 2), (4, 2))]
+
+SHAPES = [
+    ((1, 2),), ((4, 2),), ONE_HAND, ((3, 3),),
+    SQUARE, ((1, 2), (2, 2)), ((1, 3), (2, 2)), ((2, 2), (1, 3)), ((2, 3), (2, 2)), ((1, 2), (3, 3)),
+    THREE_HANDS, ((1, 2), (2, 2), (1, 3)), ((1, 3), (1, 3), (2, 2)), ((2, 3), (1, 2), (1, 3)),
+    *FULL_SHAPES,
+]
+
+# Whole 2, quiet, and not the table of a mixture.
+BOX = Table(SQUARE, 2, [[1, 0, 0, 1], [1, 0, 0, 1], [1, 0, 0, 1], [0, 1, 1, 0]])
+
+
+def counted_plans(shape):
+    count = 1
+    for dials, signs in shape:
+        count *= signs ** dials
+    return count
+
+
+def all_shapes():
+    """All shapes that keep the rules, also those with too many plans."""
+    hands = list(product(range(1, 5), (2, 3)))
+    return [shape for many in (1, 2, 3) for shape in product(hands, repeat=many)]
+
+
+def valid_shapes():
+    return [shape for shape in all_shapes() if counted_plans(shape) <= 64]
+
+
+def context_list(shape):
+    return list(product(*[range(dials) for dials, signs in shape]))
+
+
+def outcome_list(shape):
+    return list(product(*[range(signs) for dials, signs in shape]))
+
+
+def any_table(shape, seed, whole=50):
+    """A table of this whole, hardly ever a quiet one."""
+    chance = Random(seed)
+    rows = []
+    for _ in context_list(shape):
+        row = [0] * len(outcome_list(shape))
+        for _ in range(7):
+            row[chance.randrange(len(row))] += whole // 7
+        row[chance.randrange(len(row))] += whole % 7
+        rows.append(row)
+    return Table(shape, whole, rows)
+
+
+def weighted_plans(shape, seed):
+    """Some plans of the shape with weights, in order."""
+    chance = Random(seed)
+    return [(plan, chance.randrange(1, 9)) for plan in plans(shape) if chance.random() < 0.4]
+
+
+def summed_table(shape, pairs):
+    """The table of plans with weights, counted one by one."""
+    amounts = {}
+    for plan, weight in pairs:
+        for context in context_list(shape):
+            entry = context, tuple(plan[hand][dial] for hand, dial in enumerate(context))
+            amounts[entry] = amounts.get(entry, 0) + weight
+    rows = [[amounts.get((context, outcome), 0) for outcome in outcome_list(shape)]
+            for context in context_list(shape)]
+    return Table(shape, sum(weight for plan, weight in pairs), rows)
+
+
+def quiet_table(shape, seed):
+    """A quiet table; of two hands with two dials and two signs, one that is no mixture's."""
+    table = summed_table(shape, weighted_plans(shape, seed))
+    return table + BOX * 3 if shape == SQUARE else table
+
+
+def any_rating(shape, seed):
+    """A rating with numbers above and below 0."""
+    chance = Random(seed)
+    return [[chance.randrange(-9, 10) for _ in outcome_list(shape)] for _ in context_list(shape)]

@@ -1,0 +1,129 @@
+"""The interface (its names, where they are defined, their arguments) and the form of the files."""
+
+import ast
+import inspect
+import unittest
+from importlib import import_module
+from pathlib import Path
+
+PACKAGE = Path(__file__).resolve().parent.parent / "fardials"
+
+# For each file its functions with their parameters; for a class, those of each of its methods.
+INTERFACE = {
+    "shapes": {
+        "check_shape": "(shape)", "plan_count": "(shape)", "contexts": "(shape)",
+        "outcomes": "(shape)", "context_index": "(shape, context)",
+        "outcome_index": "(shape, outcome)",
+    },
+    "plans": {
+        "plans": "(shape)", "check_plan": "(shape, plan)", "plan_outcome": "(plan, context)",
+    },
+    "tables": {
+        "Table": {
+            "__init__": "(self, shape, whole, rows)", "empty": "(shape)",
+            "amount": "(self, context, outcome)", "__getitem__": "(self, at)",
+            "__iter__": "(self)", "__eq__": "(self, other)", "__add__": "(self, other)",
+            "__sub__": "(self, other)", "__mul__": "(self, other)", "__rmul__": "(self, other)",
+        },
+        "lies_below": "(first, second)", "plan_table": "(shape, plan)",
+    },
+    "ratings": {
+        "check_rating": "(shape, rating)", "rate_plan": "(shape, rating, plan)",
+        "rate_table": "(rating, table)",
+    },
+}
+
+MOST_LINES = 399
+MOST_FUNCTION_LINES = 40
+MOST_CHARACTERS = 120
+BUILTINS = ["all", "any", "enumerate", "int", "isinstance", "iter", "len", "list", "min", "range",
+            "sorted", "sum", "tuple", "zip"]
+
+
+def sources():
+    return {path.stem: path.read_text(encoding="utf-8") for path in PACKAGE.glob("*.py")}
+
+
+def trees():
+    return {name: ast.parse(text) for name, text in sources().items()}
+
+
+def defined(body):
+    return {node.name: node for node in body if isinstance(node, (ast.FunctionDef, ast.ClassDef))}
+
+
+class Interface(unittest.TestCase):
+    def test_names_are_defined_in_their_files_with_their_parameters(self):
+        for file, names in INTERFACE.items():
+            module = import_module(f"fardials.{file}")
+            here = defined(trees()[file].body)
+            for name, wanted in names.items():
+                with self.subTest(file=file, name=name):
+                    self.assertIn(name, here)
+                    self.same_parameters(here[name], getattr(module, name), wanted)
+
+    def same_parameters(self, node, item, wanted):
+        if isinstance(wanted, str):
+            self.assertEqual(str(inspect.signature(item)), wanted)
+            return
+        own = defined(node.body)
+        for name, parameters in wanted.items():
+            self.assertIn(name, own)
+            method = getattr(item, name)
+            method = method.fget if isinstance(method, property) else method
+            self.assertEqual(str(inspect.signature(method)), parameters, name)
+
+
+class Form(unittest.TestCase):
+    def test_the_folder_contains_python_files_alone(self):
+        others = [path.name for path in PACKAGE.iterdir()
+                  if path.suffix != ".py" and path.name != "__pycache__"]
+        self.assertEqual(others, [])
+
+    def test_sizes_and_characters(self):
+        for name, text in sources().items():
+            with self.subTest(name):
+                self.assertTrue(all(" " <= sign <= "~" or sign == "\n" for sign in text))
+                self.assertLessEqual(len(text.split("\n")) - 1, MOST_LINES)
+                self.assertLessEqual(max(map(len, text.split("\n"))), MOST_CHARACTERS)
+
+    def test_functions_are_short(self):
+        for name, tree in trees().items():
+            for node in ast.walk(tree):
+                if isinstance(node, ast.FunctionDef):
+                    lines = node.end_lineno - node.lineno + 1
+                    self.assertLessEqual(lines, MOST_FUNCTION_LINES, (name, node.name))
+
+    def test_imports_are_from_files_of_the_package_that_define_the_names(self):
+        found = trees()
+        for name, tree in found.items():
+            for node in ast.walk(tree):
+                self.assertNotIsInstance(node, ast.Import, name)
+                if isinstance(node, ast.ImportFrom):
+                    folder, _, file = node.module.partition(".")
+                    self.assertEqual((folder, node.level), ("fardials", 0), name)
+                    for alias in node.names:
+                        self.assertIsNone(alias.asname)
+                        self.assertIn(alias.name, defined(found[file].body), name)
+
+    def test_words_of_the_language_that_are_not_used(self):
+        barred = (ast.GeneratorExp, ast.Lambda, ast.Set, ast.SetComp, ast.Div, ast.Global,
+                  ast.AugAssign, ast.Try, ast.AsyncFunctionDef, ast.AnnAssign)
+        for name, tree in trees().items():
+            for node in ast.walk(tree):
+                self.assertNotIsInstance(node, barred, name)
+                if isinstance(node, ast.Constant):
+                    self.assertNotIsInstance(node.value, (float, bytes), name)
+
+    def test_builtins(self):
+        for name, tree in trees().items():
+            known = {alias.name for node in ast.walk(tree) if isinstance(node, ast.ImportFrom)
+                     for alias in node.names}
+            known |= set(defined(tree.body)) | {"cls", *BUILTINS}
+            for node in ast.walk(tree):
+                if isinstance(node, ast.Call) and isinstance(node.func, ast.Name):
+                    self.assertIn(node.func.id, known, name)
+                if isinstance(node, ast.Name) and isinstance(node.ctx, ast.Store):
+                    self.assertNotIn(node.id, known, name)
+                if isinstance(node, ast.arg) and node.arg != "cls":
+                    self.assertNotIn(node.arg, known, name)
