@@ -1,6 +1,7 @@
 """The interface (its names, where they are defined, their arguments) and the form of the files."""
 
 import ast
+import builtins
 import inspect
 import unittest
 from importlib import import_module
@@ -30,6 +31,29 @@ INTERFACE = {
     "ratings": {
         "check_rating": "(shape, rating)", "rate_plan": "(shape, rating, plan)",
         "rate_table": "(rating, table)",
+    },
+    "mixtures": {
+        "Mixture": {
+            "__init__": "(self, shape, pairs)", "total": "(self)", "__contains__": "(self, x)",
+            "__iter__": "(self)", "gathered": "(shape, pairs)",
+        },
+        "mixture_table": "(mixture)", "draws": "(mixture)",
+    },
+    "shares": {
+        "Share": {"__init__": "(self, mixture, *, bottom, costs)"},
+        "is_share": "(table, share)",
+    },
+    "telling": {
+        "group_amount": "(table, hands, context, signs)", "single": "(table, hand, dial)",
+        "first_telling": "(table)", "check_quiet": "(table)",
+    },
+    "views": {
+        "restricted": "(table, hand, *, dials)", "reordered": "(table, order)",
+        "left_out": "(table, hand, /, dial=0)",
+    },
+    "short": {
+        "places": "(shape)", "entry_terms": "(shape, context, outcome)", "short_form": "(table)",
+        "full_form": "(shape, numbers)", "short_rating": "(shape, rating)",
     },
 }
 
@@ -115,15 +139,16 @@ class Form(unittest.TestCase):
                 if isinstance(node, ast.Constant):
                     self.assertNotIsInstance(node.value, (float, bytes), name)
 
-    def test_builtins(self):
+    def test_called_and_assigned_names(self):
         for name, tree in trees().items():
-            known = {alias.name for node in ast.walk(tree) if isinstance(node, ast.ImportFrom)
-                     for alias in node.names}
-            known |= set(defined(tree.body)) | {"cls", *BUILTINS}
+            own = set(defined(tree.body))
+            own |= {alias.name for node in ast.walk(tree) if isinstance(node, ast.ImportFrom)
+                    for alias in node.names}
+            taken = own | set(dir(builtins))
             for node in ast.walk(tree):
                 if isinstance(node, ast.Call) and isinstance(node.func, ast.Name):
-                    self.assertIn(node.func.id, known, name)
+                    self.assertIn(node.func.id, own | {"cls", *BUILTINS}, name)
                 if isinstance(node, ast.Name) and isinstance(node.ctx, ast.Store):
-                    self.assertNotIn(node.id, known, name)
-                if isinstance(node, ast.arg) and node.arg != "cls":
-                    self.assertNotIn(node.arg, known, name)
+                    self.assertNotIn(node.id, taken, name)
+                if isinstance(node, ast.arg):
+                    self.assertNotIn(node.arg, taken, name)

@@ -210,6 +210,12 @@ class Operators(unittest.TestCase):
         with self.assertRaises(WrongShape):
             self.second - Table(((2, 2), (1, 3)), 9, [[9, 0, 0, 0, 0, 0]] * 2)
 
+    def test_what_is_no_table_or_no_integer(self):
+        for call in (lambda: self.first + 3, lambda: 3 + self.first, lambda: self.first - 3,
+                     lambda: self.first * self.second, lambda: "ab" * self.first):
+            with self.assertRaises(TypeError):
+                call()
+
     def test_lies_below(self):
         self.assertIs(lies_below(self.second, self.first), True)
         self.assertIs(lies_below(self.first, self.second), False)
