@@ -92,3 +92,22 @@ def any_rating(shape, seed):
     """A rating with numbers above and below 0."""
     chance = Random(seed)
     return [[chance.randrange(-9, 10) for _ in outcome_list(shape)] for _ in context_list(shape)]
+
+
+def full_table(shape, seed, whole=1000):
+    """A table with few amounts of 0, hardly ever a quiet one."""
+    chance = Random(seed)
+    rows = []
+    for _ in context_list(shape):
+        cuts = sorted(chance.randrange(whole + 1) for _ in outcome_list(shape)[1:])
+        rows.append([end - start for start, end in zip([0, *cuts], [*cuts, whole])])
+    return Table(shape, whole, rows)
+
+
+def raised(call, *items, **more):
+    """The error that a call raises, or None."""
+    try:
+        call(*items, **more)
+    except Exception as error:
+        return error
+    return None
