@@ -20,8 +20,7 @@ def cleared_by_all(row, kept):
     """The row with 0 at the leads of all kept rows."""
     # A kept row has 0 at the leads of the rows before it, so in this order no lead comes back.
     for lead, other in kept:
-        if row[lead] != 0:
-            row = cleared(row, other, lead)
+        row = cleared(row, other, lead)
     return row
 
 

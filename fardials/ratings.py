@@ -28,3 +28,9 @@ def rate_table(rating, table):
     check_rating(table.shape, rating)
     return sum([number * amount for numbers, amounts in zip(rating, table.rows)
                 for number, amount in zip(numbers, amounts)])
+
+
+def marked_rating(shape, entries):
+    """The rating with 1 at these entries, pairs (context, outcome), and 0 elsewhere."""
+    return [[1 if (context, outcome) in entries else 0 for outcome in outcomes(shape)]
+            for context in contexts(shape)]

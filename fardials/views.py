@@ -1,7 +1,7 @@
 """Views: tables that are read off another table."""
 
 from fardials.errors import WrongShape
-from fardials.shapes import contexts, other_hands, outcome_index, outcomes
+from fardials.shapes import contexts, other_hands, outcomes
 from fardials.tables import Table
 from fardials.telling import group_amount, with_dial
 

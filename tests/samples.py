@@ -12,6 +12,8 @@ GREAT = 10 ** 30 - 1
 ONE_HAND = ((2, 3),)
 SQUARE = ((2, 2), (2, 2))
 THREE_HANDS = ((1, 3), (2, 2), (1, 2))
+# The shapes in which hand 0 has two dials, and both hands have two signs.
+TWO_DIALS = [((2, 2), (dials, 2)) for dials in (1, 2, 3, 4)]
 # Three shapes of exactly 64 plans.
 FULL_SHAPES = [((2, 2), (2, 2), (2, 2)), ((4, 2), (2, 2)), ((2, 2), (4, 2))]
 
@@ -101,6 +103,21 @@ def full_table(shape, seed, whole=1000):
     for _ in context_list(shape):
         cuts = sorted(chance.randrange(whole + 1) for _ in outcome_list(shape)[1:])
         rows.append([end - start for start, end in zip([0, *cuts], [*cuts, whole])])
+    return Table(shape, whole, rows)
+
+
+def two_sign_table(shape, seed, whole=24):
+    """A quiet table of two hands with two signs each, often far from the table of a mixture."""
+    chance = Random(seed)
+    near = chance.random() < 0.5
+    ones = [[whole // 2 + chance.randrange(-2, 3) if near and whole > 4 else chance.randrange(whole + 1)
+             for _ in range(dials)] for dials, signs in shape]
+    rows = []
+    for x, y in context_list(shape):
+        first, second = ones[0][x], ones[1][y]
+        low, high = max(0, first + second - whole), min(first, second)
+        both = chance.choice((low, high, chance.randrange(low, high + 1)))
+        rows.append([whole - first - second + both, second - both, first - both, both])
     return Table(shape, whole, rows)
 
 

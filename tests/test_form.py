@@ -69,6 +69,28 @@ INTERFACE = {
         "best": "(rows, *, limits, gains)", "is_best": "(rows, finding, *, limits, gains)",
     },
     "plainshare": {"plain_share": "(table)"},
+    "stretches": {
+        "stretch": "(table, dial)", "all_stretches": "(table)", "meeting": "(stretches)",
+        "gap": "(table)", "joint": "(table, dial, both)",
+    },
+    "meeting": {"broken_pair": "(table)", "meeting_share": "(table)"},
+    "squares": {
+        "ways": "()", "lost_entries": "(way)", "box": "(way)", "excess": "(table, way)",
+        "lost_plan": "(way, context, outcome)", "corner_form": "(table)",
+        "square_share": "(table)",
+    },
+    "halves": {
+        "Half": {
+            "__init__": "(self, shape, states, kinds)", "fixed": "(shape, plan)", "live": "(self)",
+            "__eq__": "(self, other)", "__contains__": "(self, x)", "__xor__": "(self, other)",
+        },
+        "all_halves": "(shape)", "half_table": "(half)", "half_draw": "(table, number)",
+        "halves": "(table)",
+    },
+    "corners": {
+        "broken_square": "(half)", "half_plans": "(half)", "split_table": "(table)",
+        "two_parts": "(table)",
+    },
 }
 
 # What may be imported from Python's own modules.

@@ -212,6 +212,13 @@ class Leaving(SystemTest):
                      if system.equations[at][0] > 0 else [Fraction(10 ** 9)])
         self.assertEqual(system.leaving(0), wanted)
 
+    def test_the_last_slack_alone_may_decide(self):
+        system = made([[1, -2, -1], [1, -1, 0]], [0, 0], [1, 1, 1])
+        system.turn(0, 0)
+        system.turn(1, 1)
+        self.assertEqual(system.equations, [[1, 0, 1, -1, 2, 0], [0, 1, 1, -1, 1, 0]])
+        self.assertEqual(system.leaving(2), 1)
+
     def test_rankings_that_differ_by_very_little(self):
         self.assertEqual(made([[GREAT], [GREAT - 1]], [GREAT - 1, GREAT - 2], [1]).leaving(0), 1)
         self.assertEqual(made([[GREAT - 1], [GREAT]], [GREAT - 2, GREAT - 1], [1]).leaving(0), 0)
