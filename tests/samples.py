@@ -128,3 +128,41 @@ def raised(call, *items, **more):
     except Exception as error:
         return error
     return None
+
+
+def great_rating(shape, seed):
+    """A rating with numbers of up to 30 digits above and below 0."""
+    chance = Random(seed)
+    return [[chance.randrange(-GREAT, GREAT + 1) for _ in outcome_list(shape)]
+            for _ in context_list(shape)]
+
+
+def misfits(shape):
+    """Ratings that do not fit the shape, each with the row that the error tells."""
+    fits = any_rating(shape, 3)
+    found = [([], -1), (fits[:-1], -1), ([*fits, fits[0]], -1), ([row[:-1] for row in [*fits, fits[0]]], -1)]
+    for at in range(len(fits)):
+        for wrong in ([], fits[at][:-1], [*fits[at], 0]):
+            found.append(([*fits[:at], wrong, *fits[at + 1:]], at))
+            # A later row is wrong, too.
+            found.append(([*fits[:at], wrong, *[[]] * (len(fits) - at - 1)], at))
+    return found
+
+
+def any_tree(chance, sides, signs, left):
+    """A tree of a hand with these dials and signs of each box, of which it may ask those left."""
+    if not left or chance.random() < 0.15:
+        return ("tell", chance.randrange(signs))
+    box = chance.choice(left)
+    dials, reads = sides[box]
+    rest = [other for other in left if other != box]
+    return ("ask", box, chance.randrange(dials),
+            tuple(any_tree(chance, sides, signs, rest) for _ in range(reads)))
+
+
+def any_trees(boxes, hand, shape, seed):
+    """Trees that fit a hand of the shape; boxes are asked in an order that depends on the signs."""
+    chance = Random(f"{seed} {hand} {shape}")
+    sides = [box.shape[hand] for box in boxes]
+    dials, signs = shape[hand]
+    return [any_tree(chance, sides, signs, list(range(len(boxes)))) for _ in range(dials)]

@@ -91,6 +91,20 @@ INTERFACE = {
         "broken_square": "(half)", "half_plans": "(half)", "split_table": "(table)",
         "two_parts": "(table)",
     },
+    "games": {
+        "plain_best": "(shape, rating)", "best_plans": "(shape, rating)",
+        "half_best": "(shape, rating)",
+    },
+    "boxbest": {
+        "BoxBest": {"__init__": "(self, table, worth, prices)"},
+        "is_box_best": "(shape, rating, found)", "box_best": "(shape, rating)",
+    },
+    "trees": {"leaves": "(tree)", "check_trees": "(trees, hand, boxes, shape)"},
+    "wires": {
+        "wired": "(boxes, *, shape, left, right)",
+        "wired_mixture": "(mixtures, *, shape, left, right)",
+    },
+    "grafts": {"grafted": "(trees, inner, *, counts)"},
 }
 
 # What may be imported from Python's own modules.
