@@ -11,12 +11,15 @@ MOST_PLANS = 64
 
 def check_shape(shape):
     """Raises InvalidShape if the shape breaks a rule or has more than 64 plans."""
+    if not is_shape(shape):
+        raise InvalidShape("a shape has one to three hands, with dials and signs in range, and at most 64 plans")
+
+
+def is_shape(shape):
+    """Whether the shape keeps all rules and has at most 64 plans."""
     if not isinstance(shape, tuple) or not 1 <= len(shape) <= MOST_HANDS:
-        raise InvalidShape("a shape is a tuple of one to three hands")
-    if not all([is_hand(hand) for hand in shape]):
-        raise InvalidShape("a hand is a pair of one to four dials and two or three signs")
-    if plan_count(shape) > MOST_PLANS:
-        raise InvalidShape("a shape has at most 64 plans")
+        return False
+    return all([is_hand(hand) for hand in shape]) and plan_count(shape) <= MOST_PLANS
 
 
 def is_hand(hand):

@@ -19,12 +19,17 @@ def restricted(table, hand, *, dials):
 
 def reordered(table, order):
     """The table in which hand k is hand order[k] of the given table."""
-    if sorted(order) != list(range(len(table.shape))):
-        raise WrongShape("an order consists of all hands, each exactly once")
-    shape = tuple([table.shape[hand] for hand in order])
+    shape = reordered_shape(table.shape, order)
     rows = [[table.amount(put_back(context, order), put_back(outcome, order))
              for outcome in outcomes(shape)] for context in contexts(shape)]
     return Table(shape, table.whole, rows)
+
+
+def reordered_shape(shape, order):
+    """The shape in which hand k is hand order[k] of the given shape."""
+    if sorted(order) != list(range(len(shape))):
+        raise WrongShape("an order consists of all hands, each exactly once")
+    return tuple([shape[hand] for hand in order])
 
 
 def put_back(items, order):

@@ -1,4 +1,7 @@
-"""The interface (its names, where they are defined, their arguments) and the form of the files."""
+"""The interface (its names, where they are defined, their arguments), the form of the files, and promise 1.
+
+No clock, random source, file or network is imported, and all constants are integers or texts.
+"""
 
 import ast
 import builtins
@@ -105,6 +108,32 @@ INTERFACE = {
         "wired_mixture": "(mixtures, *, shape, left, right)",
     },
     "grafts": {"grafted": "(trees, inner, *, counts)"},
+    "bits": {"independent_rows": "(matrix)", "products": "(matrix)", "squares": "(matrix)"},
+    "parity": {"parity_answer": "(shape, asked)", "parity_table": "(shape, kinds)"},
+    "onesign": {
+        "OneSign": {
+            "__init__": "(self, count, left, right)", "__call__": "(self, row, column, signs)",
+        },
+        "one_sign": "(matrix)",
+    },
+    "houses": {
+        "World": {
+            "__init__": "(self, shape, draws, schedule)", "finished": "(self)",
+            "ask": "(self, hand, number)", "say": "(self, hand)", "fall": "(self, hand)",
+            "carry": "(self, number)", "__contains__": "(self, x)", "outcome": "(self, number)",
+            "judged": "(self)", "tally": "(self)", "log": "(self, hand)", "sent": "(self)",
+            "__call__": "(self, deed)", "rebuilt": "(shape, draws, schedule, logs)",
+        },
+        "sweep": "(shape, draws)", "perform": "(world, deeds)",
+    },
+    "texts": {
+        "write_table": "(table)", "read_table": "(text)", "write_share": "(share)",
+        "read_share": "(text)", "chart": "(table)",
+    },
+    "desk": {
+        "reordered_share": "(share, order)", "quick_share": "(table)", "certificate": "(text)",
+        "judge": "(text, paper)",
+    },
 }
 
 # What may be imported from Python's own modules.
@@ -113,8 +142,10 @@ LIBRARY = {"math": ["gcd", "lcm"]}
 MOST_LINES = 399
 MOST_FUNCTION_LINES = 40
 MOST_CHARACTERS = 120
-BUILTINS = ["all", "any", "enumerate", "int", "isinstance", "iter", "len", "list", "max", "min",
-            "range", "set", "sorted", "sum", "tuple", "zip"]
+BUILTINS = ["abs", "all", "any", "enumerate", "int", "isinstance", "iter", "len", "list", "max", "min",
+            "range", "reversed", "set", "sorted", "str", "sum", "tuple", "zip"]
+# A parameter that is an object that can be called.
+CALLED = ["world"]
 
 
 def sources():
@@ -202,7 +233,7 @@ class Form(unittest.TestCase):
             taken = own | set(dir(builtins))
             for node in ast.walk(tree):
                 if isinstance(node, ast.Call) and isinstance(node.func, ast.Name):
-                    self.assertIn(node.func.id, own | {"cls", *BUILTINS}, name)
+                    self.assertIn(node.func.id, own | {"cls", *BUILTINS, *CALLED}, name)
                 if isinstance(node, ast.Name) and isinstance(node.ctx, ast.Store):
                     self.assertNotIn(node.id, taken, name)
                 if isinstance(node, ast.arg):
