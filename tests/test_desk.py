@@ -17,7 +17,7 @@ from fardials.texts import read_share, read_table, write_share, write_table
 from fardials.views import reordered
 from tests.samples import (BOX, FULL_SHAPES, GREAT, SHAPES, SQUARE, THREE_HANDS, TWO_DIALS, any_table,
                            context_list, full_table, outcome_list, quiet_table, raised, two_sign_table,
-                           valid_shapes, weighted_plans)
+                           valid_shapes)
 from tests.test_plainshare import conditions
 from tests.test_texts import NO_NUMBERS, PAPER, TEXT, any_share, parts
 
@@ -231,9 +231,9 @@ class Certificates(unittest.TestCase):
         for table in tables():
             text = write_table(table)
             quick, slow = quick_share(table), plain_share(table)
-            papers = [quick, slow, Share(Mixture(table.shape, [(plan, 3 * weight) for plan, weight in slow.mixture]),
-                                         bottom=3 * slow.bottom, costs=[[3 * cost for cost in row] for row in slow.costs])]
-            for share in papers:
+            tripled = Share(Mixture(table.shape, [(plan, 3 * weight) for plan, weight in slow.mixture]),
+                            bottom=3 * slow.bottom, costs=[[3 * cost for cost in row] for row in slow.costs])
+            for share in (quick, slow, tripled):
                 self.assertIs(judge(text, write_share(share)), True)
                 self.assertEqual(share.mixture.total * quick.bottom, quick.mixture.total * share.bottom)
 

@@ -176,6 +176,11 @@ class HalfBest(unittest.TestCase):
         score, half = self.same(shape, [*CHAIN, [1, 1, 1, 1], [1, 1, 1, 1]])
         self.assertEqual(half.kinds, ((0, 0), (0, 1), (0, 0)))
         self.assertEqual(half.states[0][2], 0)
+        # A live pair whose kind makes no difference: dial 2 of hand 1 is live for dial 0 of hand 0.
+        shape = ((2, 2), (3, 2))
+        for equal in ([0] * 4, [3] * 4, [-2] * 4):
+            score, half = self.same(shape, [*CHAIN[:2], [9, 0, 0, 9], *CHAIN[2:], equal])
+            self.assertEqual((half.states, half.kinds), (((2, 2), (2, 2, 2)), ((0, 0, 0), (0, 1, 0))))
 
     def test_a_walk_over_all_halves(self):
         for shape in SMALL:

@@ -178,6 +178,13 @@ class NewWorlds(unittest.TestCase):
 
 
 class Deeds(unittest.TestCase):
+    def test_the_example_of_the_interface(self):
+        draws = [((0, 1), (1, 1))]
+        world = World(SQUARE, draws, sweep(SQUARE, draws))
+        self.assertEqual((world.ask(0, 2), world.say(0)), (1, 1))
+        perform(world, [("fall", 0), ("say", 0), ("ask", 1, 2), ("say", 1), ("carry", 1), ("carry", 2)])
+        self.assertEqual((world.sent(), world.outcome(2)), ([(0, 2, 1), (0, 2, 1), (1, 2, 1)], (1, 1)))
+
     def test_asking(self):
         world = World(SQUARE, [PLAN, OTHER], ROUNDS)
         self.assertEqual([world.ask(0, number) for number in (4, 0, 4, 1, 0)], [0, 1, 0, 1, 1])

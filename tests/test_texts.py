@@ -295,8 +295,8 @@ class ReadShare(Texts):
         for line in (5, 6):
             for new in ("", "4", "4 0", "4 0 01 0", "4 0 01 ", " 4 0 01", "4  0 01", "4 0  01", "4 001", "4 0 0 1",
                         "4 0 0", "4 0 011", "4 3 01", "4 0 02", "4 0 21", "4 00 01", "4 -1 01", "4 0 -1", "4 0 0-1",
-                        "4 x 01", "4 0 0x", "0 0 01", "4 0 0\u0661", "4 \u0660 01", "4 0 0\u00b9", "4 0\t01", "4 0 01\r",
-                        "01 0", "4 01 0"):
+                        "4 x 01", "4 0 0x", "0 0 01", "4 0 0\u0661", "4 \u0660 01", "4 0 0\u00b9", "4 0\t01",
+                        "4 0 01\r", "01 0", "4 01 0"):
                 self.replaced(read_share, PAPER, line, new)
             for word in NO_NUMBERS:
                 self.replaced(read_share, PAPER, line, f"{word} 0 01")
@@ -309,7 +309,8 @@ class ReadShare(Texts):
     def test_plans_that_are_not_greater_than_the_one_before(self):
         lines = PAPER.split("\n")[:4]
         for plans, line in ((["0 01", "0 01"], 6), (["0 01", "0 00"], 6), (["2 10", "0 01", "0 01"], 6),
-                            (["0 00", "0 10", "0 01"], 7), (["0 00", "2 00", "1 11"], 7), (["0 11", "1 00", "1 00"], 7)):
+                            (["0 00", "0 10", "0 01"], 7), (["0 00", "2 00", "1 11"], 7),
+                            (["0 11", "1 00", "1 00"], 7)):
             text = "\n".join([*lines, *[f"1 {plan}" for plan in plans]])
             self.wrong(read_share, text, line)
             self.wrong(read_share, text + "\n", line)
